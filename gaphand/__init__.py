@@ -1,0 +1,1 @@
+"""Gaphand: a hand that steps round a wheel, and the gaps it leaves."""

@@ -1,10 +1,7 @@
 """Wheels, and where their hand stands at a beat."""
 
-from gaphand.errors import NoBeats, NoWheel
-from gaphand.whole import greatest, is_whole
-
-# The words of a refusal leave out what was handed in: a value of any kind, or a
-# number of thousands of figures, may fail to be shown, and that would hide the refusal.
+from gaphand.errors import NoWheel
+from gaphand.whole import check_beats, greatest, is_whole
 
 
 def common(one, other):
@@ -40,6 +37,5 @@ class Wheel:
         return self.reached(beat) // self.size
 
     def reached(self, beat):
-        if not is_whole(beat, 0, greatest()):
-            raise NoBeats("the beat is no whole number from 0 to 10 ** 60")
+        check_beats("the beat", beat, 0, greatest())
         return self.start + beat * self.step

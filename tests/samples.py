@@ -52,5 +52,49 @@ def great_wheels():
     ]
 
 
+def fibonacci_wheel():
+    """The wheel that takes the most steps of all its greatness to reckon with."""
+    one, other = 1, 1
+    while one + other <= GREATEST:
+        one, other = other, one + other
+    return Wheel(other, one, 12345)
+
+
+def greater_wheels():
+    """Wheels of about sixty figures whose lap is of more than thirty, of many kinds."""
+    wheels = [wheel for wheel in great_wheels() if wheel.lap > 10 ** 30] + [fibonacci_wheel()]
+    number = 7 ** 71
+    for turn in range(12):
+        number = (number * 3 ** 120 + turn) % 10 ** 60
+        share = (1, 2, 12, 10 ** 9)[turn % 4]
+        size = (number // share + 1) * share
+        wheels.append(Wheel(size, number * 7 ** 65 % size // share * share, number ** 3 % size))
+    return wheels
+
+
+def small_wheels(sizes, starts):
+    return [Wheel(size, step, start) for size in sizes for step in range(size) for start in starts]
+
+
+def walked(wheel, many):
+    """The places of the beats 0 to many - 1, by following the hand."""
+    told = []
+    place = wheel.start
+    for _ in range(many):
+        told.append(place)
+        place = place + wheel.step
+        if place >= wheel.size:
+            place = place - wheel.size
+    return told
+
+
+def some_manys(wheel):
+    """Numbers of first beats: small, middling and great ones, up to the lap."""
+    lap = wheel.lap
+    asked = [2, 3, 4, 5, 17, 100, 10 ** 6, 7 ** 30, lap // 10 ** 20, lap // 1000, lap // 3, lap // 2, lap // 2 + 1]
+    asked += [lap - 10 ** 6, lap - 2, lap - 1, lap]
+    return sorted({many for many in asked if 2 <= many <= lap})
+
+
 def fields(wheel):
     return (wheel.size, wheel.step, wheel.start, wheel.lap)

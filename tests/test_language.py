@@ -35,6 +35,13 @@ WORDS = (
 
 NOT_USED = "register mro elements open input version_info with_traceback add_note format format_map".split()
 
+KEYWORDS = {"sorted": "key reverse", "min": "key default", "max": "key default", "sum": "start",
+            "enumerate": "start", "zip": "strict"}
+
+WALKED = "zip enumerate reversed range items keys values".split()
+
+WALKERS = "list tuple dict sorted sum any all enumerate zip min max".split()
+
 DEFINED = ("__init__", "__eq__", "__repr__", "__str__", "__len__")
 
 
@@ -167,6 +174,50 @@ class Tree(unittest.TestCase):
         for name, node in walked(ast.BinOp):
             if isinstance(node.op, ast.Pow):
                 self.assertIn(getattr(node.right, "value", None), range(65), (name, node.lineno))
+
+    def test_no_local_hides_an_import_or_a_class(self):
+        for path, tree in trees().items():
+            taken = [part.name for node in tree.body if isinstance(node, ast.ImportFrom) for part in node.names]
+            taken += [node.name for node in tree.body if isinstance(node, ast.ClassDef)]
+            for node in ast.walk(tree):
+                if isinstance(node, ast.arg):
+                    self.assertNotIn(node.arg, taken, (path.name, node.lineno))
+                if isinstance(node, ast.Name) and isinstance(node.ctx, ast.Store):
+                    self.assertNotIn(node.id, taken, (path.name, node.lineno))
+
+    def test_is_stands_beside_none_and_truths_alone(self):
+        for name, node in walked(ast.Compare):
+            for sign, right in zip(node.ops, node.comparators):
+                if isinstance(sign, (ast.Is, ast.IsNot)):
+                    self.assertIn(getattr(right, "value", 0), (None, True, False), (name, node.lineno))
+
+    def test_keywords_at_names_of_pythons_own(self):
+        for name, node in walked(ast.Call):
+            called = getattr(node.func, "id", getattr(node.func, "attr", ""))
+            if called in OWN_NAMES + OWN_METHODS:
+                for part in node.keywords:
+                    self.assertIn(part.arg, KEYWORDS.get(called, "").split(), (name, node.lineno))
+
+    def test_walked_at_once(self):
+        on_the_spot = [node.iter for name, node in walked((ast.For, ast.comprehension))]
+        for name, node in walked(ast.Call):
+            if getattr(node.func, "id", "") in WALKERS:
+                on_the_spot += node.args
+        spots = [(node.lineno, node.col_offset, ast.dump(node)) for node in on_the_spot]
+        for name, node in walked(ast.Call):
+            if getattr(node.func, "id", getattr(node.func, "attr", "")) in WALKED:
+                self.assertIn((node.lineno, node.col_offset, ast.dump(node)), spots, (name, node.lineno))
+
+    def test_no_sets_and_no_errors_of_pythons_own_taken(self):
+        for name, node in walked(ast.Name):
+            self.assertNotIn(node.id, ("set", "frozenset"), (name, node.lineno))
+        for name, node in walked(ast.ExceptHandler):
+            self.assertNotIn(getattr(node.type, "id", None), [None] + dir(builtins), (name, node.lineno))
+
+    def test_making_gives_back_nothing(self):
+        for name, node in walked(ast.FunctionDef):
+            if node.name == "__init__":
+                self.assertEqual([part for part in ast.walk(node) if isinstance(part, ast.Return)], [], name)
 
 
 if __name__ == "__main__":
